@@ -1,0 +1,1 @@
+"""Creasecurve: roofs of planes, and their creases seen from above."""

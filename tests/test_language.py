@@ -1,0 +1,202 @@
+"""Holds the package's files to those rules of the language part that can be read off a syntax tree."""
+
+import ast
+import builtins
+import pathlib
+import re
+import unittest
+
+PACKAGE = pathlib.Path(__file__).resolve().parent.parent / "creasecurve"
+
+NODES = """Module Expr Assign AugAssign If While For Return Break Continue Pass Raise Try ExceptHandler
+FunctionDef ClassDef Lambda arguments arg ImportFrom alias Import Call keyword Attribute Subscript Slice Name
+Constant List Tuple Dict Set ListComp comprehension JoinedStr FormattedValue BinOp UnaryOp BoolOp Compare IfExp
+Load Store Add Sub Mult FloorDiv Mod Pow BitAnd BitOr BitXor LShift RShift USub UAdd Invert Not And Or
+Eq NotEq Lt LtE Gt GtE Is IsNot In NotIn""".split()
+TOP_NODES = (ast.ImportFrom, ast.FunctionDef, ast.ClassDef, ast.Assign)
+PYTHON_NAMES = """len range enumerate zip min max sum abs sorted reversed int str bool list tuple dict set
+frozenset isinstance ord repr any all divmod Exception ValueError TypeError KeyError IndexError LookupError
+ZeroDivisionError ArithmeticError OverflowError RuntimeError NotImplementedError StopIteration""".split()
+METHODS = """append clear copy count endswith extend find get index insert isalnum isalpha isdigit islower isspace
+isupper items join keys ljust lower lstrip partition pop remove replace reverse rfind rjust rpartition rsplit rstrip
+setdefault split splitlines startswith strip update upper values zfill bit_length __init__""".split()
+DUNDERS = ["__init__", "__eq__", "__repr__", "__str__", "__len__"]
+UNUSED_NAMES = """register mro elements open input version_info with_traceback add_note attrgetter breakpoint builtins
+compile copyright credits delattr dir eval exec exit gc getattr globals hasattr help id importlib license locals
+methodcaller os quit setattr super type vars sys""".split()
+UNUSED_WORDS = re.compile(
+    r"\b(type|typing|typing_extensions|enum|Enum|IntEnum|StrEnum|Flag|IntFlag|Generic|Protocol|ABC|ABCMeta"
+    r"|namedtuple|NamedTuple|TypedDict|TYPE_CHECKING|abstractmethod)\b|dataclass|overload|contextmanager"
+)
+TAKEN_NAMES = [name for name in dir(builtins) if not name.startswith("_")] + UNUSED_NAMES
+PLAIN_NAME = re.compile(r"[A-Za-z][A-Za-z0-9_]*")
+
+
+def text_faults(text):
+    faults = []
+    rows = text.split("\n")
+    if len(rows) > 401:
+        faults.append("L10: more than 400 rows")
+    for number, row in enumerate(rows, start=1):
+        if len(row) > 120:
+            faults.append(f"L10: row {number} is too long")
+        if re.search(r"[^ -~]", row):
+            faults.append(f"L14: a sign in row {number}")
+        if UNUSED_WORDS.search(row):
+            faults.append(f"L17: a word in row {number}")
+    return faults
+
+
+def top_faults(tree):
+    faults = []
+    bound = []
+    for place, node in enumerate(tree.body):
+        if place == 0 and isinstance(node, ast.Expr) and isinstance(node.value, ast.Constant):
+            continue
+        if not isinstance(node, TOP_NODES):
+            faults.append(f"L3: row {node.lineno}")
+        bound.extend(names_bound(node))
+    if len(bound) != len(set(bound)):
+        faults.append("L15: a name is bound twice at the top")
+    return faults
+
+
+def names_bound(node):
+    if isinstance(node, ast.ImportFrom):
+        return [name.asname or name.name for name in node.names]
+    if isinstance(node, (ast.FunctionDef, ast.ClassDef)):
+        return [node.name]
+    if isinstance(node, ast.Assign):
+        return [name.id for name in ast.walk(node.targets[0]) if isinstance(name, ast.Name)]
+    return []
+
+
+def names_given(node):
+    if isinstance(node, ast.Name) and isinstance(node.ctx, ast.Store):
+        return [node.id]
+    if isinstance(node, ast.arg):
+        return [node.arg]
+    if isinstance(node, (ast.FunctionDef, ast.ClassDef)):
+        return [node.name]
+    return []
+
+
+def node_faults(node, top_names, own_methods):
+    faults = []
+    if type(node).__name__ not in NODES:
+        faults.append("L6, L7: " + type(node).__name__)
+    for name in names_given(node):
+        if not PLAIN_NAME.fullmatch(name) and name not in DUNDERS:
+            faults.append("L12: " + name)
+        if name in TAKEN_NAMES:
+            faults.append("L15, L17: " + name)
+    if isinstance(node, ast.Name) and node.id not in top_names:
+        if node.id in TAKEN_NAMES and node.id not in PYTHON_NAMES:
+            faults.append("L8: " + node.id)
+    if isinstance(node, ast.Call) and isinstance(node.func, ast.Attribute):
+        if node.func.attr not in METHODS and node.func.attr not in own_methods:
+            faults.append("L25: " + node.func.attr)
+    return faults + form_faults(node)
+
+
+def form_faults(node):
+    faults = []
+    if isinstance(node, (ast.FunctionDef, ast.ClassDef)) and node.decorator_list:
+        faults.append("L4, L5: a decorator")
+    if isinstance(node, ast.FunctionDef) and node.end_lineno - node.lineno >= 40:
+        faults.append("L10: " + node.name + " is too long")
+    if isinstance(node, ast.arguments) and (node.vararg or node.kwarg or node.kwonlyargs or node.posonlyargs):
+        faults.append("L4: parameters")
+    if isinstance(node, ast.ClassDef):
+        if len(node.bases) > 1 or not all(isinstance(row, (ast.FunctionDef, ast.Pass)) for row in node.body):
+            faults.append("L5: " + node.name)
+    if isinstance(node, ast.Assign) and len(node.targets) != 1:
+        faults.append("L6: two targets")
+    if isinstance(node, (ast.While, ast.For)) and node.orelse:
+        faults.append("L6: else behind a loop")
+    if isinstance(node, ast.Try) and node.finalbody:
+        faults.append("L6: finally")
+    if isinstance(node, ast.Constant) and not isinstance(node.value, (int, str, type(None))):
+        faults.append("L7: a value")
+    if isinstance(node, ast.ListComp) and (len(node.generators) > 1 or len(node.generators[0].ifs) > 1):
+        faults.append("L7: a comprehension")
+    return faults
+
+
+def import_faults(tree, defined):
+    faults = []
+    for node in ast.walk(tree):
+        if isinstance(node, ast.Import):
+            faults.append("L16: import")
+        if isinstance(node, ast.ImportFrom):
+            for name in node.names:
+                if node.level != 0 or name.name not in defined.get(node.module, []):
+                    faults.append(f"L2, L16: {node.module} {name.name}")
+    return faults
+
+
+def file_faults(text, defined):
+    tree = ast.parse(text)
+    top_names = [name for node in tree.body for name in names_bound(node)]
+    own_methods = [node.name for node in ast.walk(tree) if isinstance(node, ast.FunctionDef)]
+    faults = text_faults(text) + top_faults(tree) + import_faults(tree, defined)
+    for node in ast.walk(tree):
+        faults.extend(node_faults(node, top_names, own_methods))
+    return faults
+
+
+def drawn_from(tree):
+    return [node.module for node in ast.walk(tree) if isinstance(node, ast.ImportFrom)]
+
+
+def goes_round(start, drawn):
+    met = []
+    ahead = list(drawn[start])
+    while ahead:
+        module = ahead.pop()
+        if module not in met:
+            met.append(module)
+            ahead.extend(drawn.get(module, []))
+    return start in met
+
+
+class Language(unittest.TestCase):
+    def setUp(self):
+        self.texts = {"creasecurve." + path.stem: path.read_text("utf-8") for path in PACKAGE.glob("*.py")}
+        self.trees = {module: ast.parse(text) for module, text in self.texts.items()}
+        self.defined = {}
+        for module, tree in self.trees.items():
+            made_here = [node for node in tree.body if not isinstance(node, ast.ImportFrom)]
+            self.defined[module] = [name for node in made_here for name in names_bound(node)]
+
+    def test_only_plain_files(self):
+        for path in PACKAGE.iterdir():
+            if path.name != "__pycache__":
+                self.assertRegex(path.name, r"^([a-z][a-z0-9_]*|__init__|__main__)\.py$")
+        self.assertTrue((PACKAGE / "__init__.py").is_file())
+
+    def test_each_file(self):
+        for module, text in self.texts.items():
+            with self.subTest(module):
+                self.assertEqual(file_faults(text, self.defined), [])
+
+    def test_no_two_files_draw_from_one_another(self):
+        drawn = {module: drawn_from(tree) for module, tree in self.trees.items()}
+        for module in drawn:
+            with self.subTest(module):
+                self.assertFalse(goes_round(module, drawn))
+
+    def test_code_outside_the_rules_is_found(self):
+        wrong = ["import math", "from math import gcd", "from .errors import NoRoof", "x = 1\nx = 2", "x = 0.5",
+                 "def f(*rest):\n    pass", "def f():\n    return 1 / 2", "def f(x):\n    x.sort()",
+                 "def f(x):\n    return hash(x)", "def f(id):\n    return id", "def _f():\n    pass",
+                 "# the type of it", "def f():\n\tpass", "class A:\n    x = 1", "if True:\n    pass",
+                 "def f(x):\n    a = b = x", "def f(x):\n    return {a for a in x}", "x = '" + "a" * 120 + "'",
+                 "def f(x):\n    with x:\n        pass", "def f():\n" + "    pass\n" * 40]
+        for text in wrong:
+            with self.subTest(text):
+                self.assertNotEqual(file_faults(text, self.defined), [])
+
+
+if __name__ == "__main__":
+    unittest.main()
