@@ -51,3 +51,23 @@ def greatest(numbers):
         if less(best, number):
             best = number
     return best
+
+
+def least(numbers):
+    best = numbers[0]
+    for number in numbers:
+        if less(number, best):
+            best = number
+    return best
+
+
+def common_bottom(numbers):
+    common = 1
+    for number in numbers:
+        common = common * number[1] // greatest_divisor(common, number[1])
+    return common
+
+
+def whole(number, factor):
+    # The factor is one that the bottom divides, so nothing is lost.
+    return number[0] * (factor // number[1])

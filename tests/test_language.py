@@ -123,6 +123,66 @@ def form_faults(node):
     return faults
 
 
+WALKED_CALLS = ["zip", "enumerate", "reversed", "range"]
+WALKED_METHODS = ["items", "keys", "values"]
+WALKERS = ["list", "tuple", "dict", "sorted", "sum", "any", "all", "enumerate", "zip"]
+
+
+def called(node):
+    return node.func.id if isinstance(node, ast.Call) and isinstance(node.func, ast.Name) else ""
+
+
+def is_walked_thing(node):
+    if isinstance(node, ast.Call) and isinstance(node.func, ast.Attribute):
+        return node.func.attr in WALKED_METHODS
+    return called(node) in WALKED_CALLS
+
+
+def is_walked_by(node, parent):
+    if isinstance(parent, (ast.For, ast.comprehension)):
+        return parent.iter is node
+    if called(parent) in WALKERS:
+        return parent.args[0] is node
+    return called(parent) in ("min", "max") and parent.args == [node]
+
+
+def is_set(node):
+    return isinstance(node, ast.Set) or called(node) in ("set", "frozenset")
+
+
+def is_asked_set(node, parent):
+    if isinstance(parent, ast.BinOp):
+        return True
+    if isinstance(parent, ast.Compare):
+        return all(isinstance(sign, (ast.In, ast.NotIn, ast.Eq, ast.NotEq)) for sign in parent.ops)
+    return called(parent) in ("sorted", "len") and not parent.keywords
+
+
+def is_sole(node):
+    return isinstance(node, ast.Constant) and any(node.value is value for value in (None, True, False))
+
+
+def place_faults(tree):
+    faults = []
+    for parent in ast.walk(tree):
+        if isinstance(parent, ast.Compare) and any(isinstance(sign, (ast.Is, ast.IsNot)) for sign in parent.ops):
+            if not any(is_sole(node) for node in [parent.left] + parent.comparators):
+                faults.append("L20: is")
+        for node in ast.iter_child_nodes(parent):
+            if is_walked_thing(node) and not is_walked_by(node, parent):
+                faults.append(f"L23: row {node.lineno}")
+            if is_set(node) and not is_asked_set(node, parent):
+                faults.append(f"L24: row {node.lineno}")
+    return faults
+
+
+def shadow_faults(tree):
+    makers = [node for node in tree.body if isinstance(node, (ast.ImportFrom, ast.ClassDef))]
+    taken = [name for node in makers for name in names_bound(node)]
+    given = [name for node in ast.walk(tree) if isinstance(node, (ast.Name, ast.arg)) for name in names_given(node)]
+    return ["L15: " + name for name in given if name in taken]
+
+
 def import_faults(tree, defined):
     faults = []
     for node in ast.walk(tree):
@@ -140,6 +200,7 @@ def file_faults(text, defined):
     top_names = [name for node in tree.body for name in names_bound(node)]
     own_methods = [node.name for node in ast.walk(tree) if isinstance(node, ast.FunctionDef)]
     faults = text_faults(text) + top_faults(tree) + import_faults(tree, defined)
+    faults.extend(place_faults(tree) + shadow_faults(tree))
     for node in ast.walk(tree):
         faults.extend(node_faults(node, top_names, own_methods))
     return faults
@@ -192,7 +253,10 @@ class Language(unittest.TestCase):
                  "def f(x):\n    return hash(x)", "def f(id):\n    return id", "def _f():\n    pass",
                  "# the type of it", "def f():\n\tpass", "class A:\n    x = 1", "if True:\n    pass",
                  "def f(x):\n    a = b = x", "def f(x):\n    return {a for a in x}", "x = '" + "a" * 120 + "'",
-                 "def f(x):\n    with x:\n        pass", "def f():\n" + "    pass\n" * 40]
+                 "def f(x):\n    with x:\n        pass", "def f():\n" + "    pass\n" * 40,
+                 "def f(x):\n    pairs = zip(x, x)", "def f(x):\n    return x.items()", "def f(x):\n    return set(x)",
+                 "def f(x):\n    return x is 1", "from creasecurve.errors import NoRoof\ndef f(NoRoof):\n    pass",
+                 "def f(x):\n    for a in set(x):\n        pass", "def f(x):\n    return zip(x, reversed(x))"]
         for text in wrong:
             with self.subTest(text):
                 self.assertNotEqual(file_faults(text, self.defined), [])
