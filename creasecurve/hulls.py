@@ -16,3 +16,18 @@ def chain(points):
             kept.pop()
         kept.append(point)
     return kept
+
+
+def hull(slopes):
+    rows = sorted(set(slopes))
+    if len(rows) == 1:
+        return rows
+    there = chain(rows)
+    back = chain(list(reversed(rows)))
+    # Each of the two ways ends where the other one begins.
+    return there[:-1] + back[:-1]
+
+
+def area(slopes):
+    around = hull(slopes)
+    return sum([turn((0, 0), around[k - 1], around[k]) for k in range(len(around))])

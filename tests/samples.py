@@ -82,6 +82,35 @@ def sample_roofs():
     return roofs
 
 
+def rows_of(pairs):
+    return [(slope, told(height)) for slope, height in pairs]
+
+
+def sample_lines():
+    lines = [rows_of([(0, 0)]), rows_of([(-7, "1/3")]), rows_of([(0, 0), (1, 0), (2, 0)]),
+             rows_of([(0, 0), (1, -1), (2, 0)]), rows_of([(0, 0), (1, "1/9"), (2, 0)]),
+             rows_of([(-9, -5), (-2, "1/2"), (0, 1), (3, "1/7"), (4, -20)]),
+             rows_of([(-10 ** 59, 10 ** 59), (0, Fraction(1, 10 ** 59)), (1, 0), (10 ** 59, Fraction(-7, 3))])]
+    for seed in range(60):
+        row = chances(seed)
+        slopes = some_slopes(row, 1 + next(row) % 9, range(-8, 9))
+        if seed % 3 == 0:
+            heights = [Fraction(next(row) % 4) for slope in slopes]
+        elif seed % 3 == 1:
+            heights = [Fraction(next(row) % 30 - slope * slope, 1 + next(row) % 5) for slope in slopes]
+        else:
+            heights = [Fraction(long_number(row), long_number(row)) - slope * slope for slope in slopes]
+        lines.append(rows_of(zip(slopes, heights)))
+    return lines
+
+
+def long_roof(figures):
+    """Sixteen planes, most of which stay, whose heights have about so many figures at top and bottom."""
+    whole = 10 ** figures
+    return [plane(i, j, Fraction(-(i * i + j * j) * (whole // 128) - i, whole - 1 - 3 * j))
+            for i, j in ALL_SLOPES[::5][:16]]
+
+
 def spoil(thing):
     """Changes every list and dict within a thing, as far down as there are any."""
     if isinstance(thing, dict):

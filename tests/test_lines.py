@@ -6,14 +6,10 @@ from creasecurve.errors import NoRoof
 from creasecurve.lines import along, line_added, line_height, line_of, line_thinned
 from creasecurve.roofs import height_at
 from creasecurve.texts import read
-from samples import at, real, told
+from samples import at, real, rows_of, sample_lines, told
 
 NINES = 10 ** 30 - 1
 PLACES = sorted({Fraction(top, bottom) for top in range(-25, 26) for bottom in (1, 2, 3, 7)})
-
-
-def rows_of(pairs):
-    return [(slope, told(height)) for slope, height in pairs]
 
 
 def real_height(line, t):
@@ -35,24 +31,6 @@ def expected_thinned(line):
         if len(best) == 1:
             alone.add(best[0])
     return [row for row in line if row in alone]
-
-
-def sample_lines():
-    lines = [rows_of([(0, 0)]), rows_of([(-7, "1/3")]), rows_of([(0, 0), (1, 0), (2, 0)]),
-             rows_of([(0, 0), (1, -1), (2, 0)]), rows_of([(0, 0), (1, "1/9"), (2, 0)]),
-             rows_of([(-9, -5), (-2, "1/2"), (0, 1), (3, "1/7"), (4, -20)]),
-             rows_of([(-10 ** 59, 10 ** 59), (0, Fraction(1, 10 ** 59)), (1, 0), (10 ** 59, Fraction(-7, 3))])]
-    for seed in range(60):
-        row = samples.chances(seed)
-        slopes = samples.some_slopes(row, 1 + next(row) % 9, range(-8, 9))
-        if seed % 3 == 0:
-            heights = [Fraction(next(row) % 4) for slope in slopes]
-        elif seed % 3 == 1:
-            heights = [Fraction(next(row) % 30 - slope * slope, 1 + next(row) % 5) for slope in slopes]
-        else:
-            heights = [Fraction(samples.long_number(row), samples.long_number(row)) - slope * slope for slope in slopes]
-        lines.append(rows_of(zip(slopes, heights)))
-    return lines
 
 
 class Making(unittest.TestCase):

@@ -180,8 +180,7 @@ class Wholly(Checks):
 
     def test_heights_with_many_figures(self):
         for figures in (30, 60):
-            roof = [plane(i, j, Fraction(-(i * i + j * j) * 10 ** figures - i, 10 ** figures - 1 - 3 * j))
-                    for i, j in samples.ALL_SLOPES[::5][:16]]
+            roof = samples.long_roof(figures)
             self.check_roof(roof)
             self.check_roof([plane(i, j, -real(height)) for i, j, height in roof])
 
