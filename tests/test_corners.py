@@ -1,4 +1,3 @@
-import itertools
 import unittest
 from fractions import Fraction
 
@@ -6,28 +5,9 @@ import samples
 from creasecurve.corners import corners
 from creasecurve.texts import read
 from creasecurve.thinning import thinned
-from samples import at, plane, real
+from samples import at, expected_corners, plane, real
 
 HAIR = Fraction(1, 10 ** 30 - 1)
-
-
-def level_at(a, b, c):
-    """The one point where three planes are level, or None where their slopes lie on one line."""
-    p, q, e = b[0] - a[0], b[1] - a[1], real(a[2]) - real(b[2])
-    r, s, f = c[0] - a[0], c[1] - a[1], real(a[2]) - real(c[2])
-    area = p * s - q * r
-    return None if area == 0 else (Fraction(e * s - q * f) / area, Fraction(p * f - e * r) / area)
-
-
-def expected_corners(roof):
-    found = set()
-    for group in itertools.combinations(roof, 3):
-        point = level_at(*group)
-        if point is not None:
-            heights = [one[0] * point[0] + one[1] * point[1] + real(one[2]) for one in roof]
-            if max(heights) == heights[roof.index(group[0])]:
-                found.add(point)
-    return [at(x, y) for x, y in sorted(found)]
 
 
 class Corners(unittest.TestCase):

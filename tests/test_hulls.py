@@ -2,22 +2,7 @@ import unittest
 
 import samples
 from creasecurve.hulls import area, hull
-
-BIG = 10 ** 59
-
-
-def turn(a, b, c):
-    return (b[0] - a[0]) * (c[1] - a[1]) - (b[1] - a[1]) * (c[0] - a[0])
-
-
-def sample_lists():
-    lists = []
-    for seed in range(120):
-        row = samples.chances(seed)
-        count = 1 + next(row) % (100 if seed % 4 == 0 else 9)
-        wide = (3, 9, 40, 2 * BIG)[seed % 4]
-        lists.append([(next(row) * BIG % wide - wide // 2, next(row) * BIG % wide - wide // 2) for k in range(count)])
-    return lists
+from samples import BIG, tuple_lists, turn
 
 
 class Hull(unittest.TestCase):
@@ -66,7 +51,7 @@ class Hull(unittest.TestCase):
         self.assertEqual(hull(grid), [(0, 0), (9, 0), (9, 9), (0, 9)])
 
     def test_what_a_hull_is(self):
-        for slopes in sample_lists():
+        for slopes in tuple_lists():
             around = hull(slopes)
             self.assertIs(type(around), list)
             self.assertEqual(around[0], min(slopes))
@@ -106,14 +91,14 @@ class Area(unittest.TestCase):
         self.assertEqual(area([(0, 0), (BIG, BIG - 1), (BIG + 1, BIG)]), 1)
 
     def test_cut_into_triangles(self):
-        for slopes in sample_lists():
+        for slopes in tuple_lists():
             around = hull(slopes)
             triangles = [turn(around[0], around[k - 1], around[k]) for k in range(2, len(around))]
             self.assertEqual(area(slopes), sum(triangles))
             self.assertIs(type(area(slopes)), int)
 
     def test_the_same_wherever_it_lies(self):
-        for slopes in sample_lists():
+        for slopes in tuple_lists():
             self.assertEqual(area([(i + 77, j - BIG) for i, j in slopes]), area(slopes))
             self.assertEqual(area([(-j, i) for i, j in slopes]), area(slopes))
             self.assertEqual(area([(j, i) for i, j in slopes]), area(slopes))

@@ -11,7 +11,7 @@ from creasecurve.pieces import leaving, pieces
 from creasecurve.texts import read
 from creasecurve.thinning import thinned
 from creasecurve.tops import tops
-from samples import at, plane, real
+from samples import at, inner_point, plane, real
 
 HAIR = Fraction(1, 10 ** 30 - 1)
 
@@ -57,19 +57,6 @@ def expected_leaving(roof, point):
         if point in ends:
             rows.append(((u, v) if point == ends[0] else (-u, -v), weight))
     return sorted(rows)
-
-
-def inner_point(piece, roof):
-    """A point of a piece that is none of its ends."""
-    one, other, ends, step, weight = piece
-    if len(ends) == 2:
-        (x, y), (z, w) = [(real(a), real(b)) for a, b in ends]
-        return (x * 2 + z) / 3, (y * 2 + w) / 3
-    if len(ends) == 1:
-        return real(ends[0][0]) + step[0] * Fraction(2, 5), real(ends[0][1]) + step[1] * Fraction(2, 5)
-    heights = {entry[:2]: real(entry[2]) for entry in roof}
-    a, b, rise = other[0] - one[0], other[1] - one[1], heights[one] - heights[other]
-    return (rise / a, Fraction(0)) if a != 0 else (Fraction(0), rise / b)
 
 
 class Pieces(unittest.TestCase):
