@@ -14,6 +14,13 @@ def dealings_of(n):
     return made
 
 
+def whole_rows(table, factor):
+    rows = []
+    for row in table:
+        rows.append([whole(number, factor) for number in row])
+    return rows
+
+
 def worth_of(rows, dealing):
     return sum([row[column] for row, column in zip(rows, dealing)])
 
@@ -23,7 +30,7 @@ def best(table):
     for row in table:
         numbers.extend(row)
     factor = common_bottom(numbers)
-    rows = [[whole(number, factor) for number in row] for row in table]
+    rows = whole_rows(table, factor)
     dealings = dealings_of(len(rows))
     worths = [worth_of(rows, dealing) for dealing in dealings]
     top = max(worths)

@@ -20,9 +20,13 @@ def lies_within(around, slope):
     return all([turn(around[k - 1], around[k], slope) > 0 for k in range(len(around))])
 
 
+def corners_of_land(rows, slope):
+    # A plane that stays is no mixture of others on top, so where it is on top at a corner the field goes by its slope.
+    return [corner for corner, around in rows if slope in around]
+
+
 def lands(roof):
     rows = fields(roof)
     around = hull([slope_of(plane) for plane in roof])
     slopes = [slope_of(plane) for plane in thinned(roof)]
-    # A plane that stays is no mixture of others on top, so where it is on top at a corner the field goes by its slope.
-    return [(slope, lies_within(around, slope), [corner for corner, row in rows if slope in row]) for slope in slopes]
+    return [(slope, lies_within(around, slope), corners_of_land(rows, slope)) for slope in slopes]

@@ -5,6 +5,7 @@ from creasecurve.fractions import greatest_divisor
 from creasecurve.roofs import roof_of
 
 FIGURES = "0123456789"
+LETTERS = "abcdefghijklmnopqrstuvwxyz"
 MOST_FIGURES = 30
 SLOPE_FIGURES = "012345678"
 

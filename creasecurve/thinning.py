@@ -102,11 +102,15 @@ def weights_of(plane, group):
     return triple_weights(plane, group[0], group[1], group[2])
 
 
+def shared_sum(rows):
+    total = (0, 1)
+    for share, number in rows:
+        total = plus(total, times(share, number))
+    return total
+
+
 def mixture_height(mixture):
-    height = (0, 1)
-    for share, plane in mixture:
-        height = plus(height, times(share, plane[2]))
-    return height
+    return shared_sum([(share, plane[2]) for share, plane in mixture])
 
 
 def mixture_of(plane, groups):

@@ -183,6 +183,59 @@ def shadow_faults(tree):
     return ["L15: " + name for name in given if name in taken]
 
 
+def is_plain(node):
+    if isinstance(node, (ast.List, ast.Tuple)):
+        return all(is_plain(part) for part in node.elts)
+    if isinstance(node, ast.Dict):
+        return all(is_plain(part) for part in node.keys + node.values)
+    return isinstance(node, ast.Constant)
+
+
+def kept_faults(tree):
+    faults = []
+    for node in tree.body:
+        if isinstance(node, ast.Assign):
+            inner = [part for part in ast.walk(node.value) if part is not node.value]
+            if not is_plain(node.value):
+                faults.append(f"L3: row {node.lineno}")
+            if any(isinstance(part, (ast.List, ast.Dict)) for part in inner):
+                faults.append(f"L15: row {node.lineno}")
+    return faults
+
+
+def error_faults(tree):
+    faults = []
+    for node in ast.walk(tree):
+        if isinstance(node, ast.ExceptHandler):
+            if not isinstance(node.type, ast.Name) or node.type.id in ("Exception", "TypeError", "ValueError"):
+                faults.append(f"L19: row {node.lineno}")
+        if isinstance(node, ast.Raise) and not isinstance(node.exc, ast.Call):
+            faults.append(f"L19: row {node.lineno}")
+    return faults
+
+
+KEYWORDS = {"sorted": ("key", "reverse"), "min": ("key", "default"), "max": ("key", "default"), "sum": ("start",),
+            "enumerate": ("start",), "zip": ("strict",)}
+
+
+def keyword_faults(tree, top_names):
+    faults = []
+    for node in ast.walk(tree):
+        if isinstance(node, ast.Call) and node.keywords and called(node) not in top_names:
+            if not all(word.arg in KEYWORDS.get(called(node), ()) for word in node.keywords):
+                faults.append(f"L22: row {node.lineno}")
+    return faults
+
+
+def methods_of(tree):
+    return [row.name for node in tree.body if isinstance(node, ast.ClassDef) for row in node.body
+            if isinstance(row, ast.FunctionDef)]
+
+
+def values_of(tree):
+    return [node.attr for node in ast.walk(tree) if isinstance(node, ast.Attribute) and isinstance(node.ctx, ast.Store)]
+
+
 def import_faults(tree, defined):
     faults = []
     for node in ast.walk(tree):
@@ -200,7 +253,8 @@ def file_faults(text, defined):
     top_names = [name for node in tree.body for name in names_bound(node)]
     own_methods = [node.name for node in ast.walk(tree) if isinstance(node, ast.FunctionDef)]
     faults = text_faults(text) + top_faults(tree) + import_faults(tree, defined)
-    faults.extend(place_faults(tree) + shadow_faults(tree))
+    faults.extend(place_faults(tree) + shadow_faults(tree) + kept_faults(tree) + error_faults(tree))
+    faults.extend(keyword_faults(tree, top_names))
     for node in ast.walk(tree):
         faults.extend(node_faults(node, top_names, own_methods))
     return faults
@@ -247,6 +301,15 @@ class Language(unittest.TestCase):
             with self.subTest(module):
                 self.assertFalse(goes_round(module, drawn))
 
+    def test_no_name_is_a_method_and_a_value(self):
+        methods = [name for tree in self.trees.values() for name in methods_of(tree)]
+        values = [name for tree in self.trees.values() for name in values_of(tree)]
+        self.assertIn("holds", methods)
+        self.assertIn("parts", values)
+        self.assertEqual(set(methods) & set(values), set())
+        for name in values:
+            self.assertFalse(any(name in dir(kind) for kind in (str, int, list, tuple, dict, set, bytes)), name)
+
     def test_code_outside_the_rules_is_found(self):
         wrong = ["import math", "from math import gcd", "from .errors import NoRoof", "x = 1\nx = 2", "x = 0.5",
                  "def f(*rest):\n    pass", "def f():\n    return 1 / 2", "def f(x):\n    x.sort()",
@@ -256,7 +319,11 @@ class Language(unittest.TestCase):
                  "def f(x):\n    with x:\n        pass", "def f():\n" + "    pass\n" * 40,
                  "def f(x):\n    pairs = zip(x, x)", "def f(x):\n    return x.items()", "def f(x):\n    return set(x)",
                  "def f(x):\n    return x is 1", "from creasecurve.errors import NoRoof\ndef f(NoRoof):\n    pass",
-                 "def f(x):\n    for a in set(x):\n        pass", "def f(x):\n    return zip(x, reversed(x))"]
+                 "def f(x):\n    for a in set(x):\n        pass", "def f(x):\n    return zip(x, reversed(x))",
+                 "x = len('a')", "x = {'a': [1]}", "x = [{}]", "def f():\n    raise ValueError",
+                 "def f(x):\n    try:\n        x()\n    except Exception:\n        pass",
+                 "def f(x):\n    try:\n        x()\n    except:\n        pass",
+                 "def f(x):\n    return x.split(sep='a')", "def f(x):\n    return int(x, base=2)"]
         for text in wrong:
             with self.subTest(text):
                 self.assertNotEqual(file_faults(text, self.defined), [])
